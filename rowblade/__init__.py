@@ -1,0 +1,1 @@
+"""Rowblade: deeds at the rows of a text, looked through ahead."""
