@@ -4,8 +4,8 @@ A pattern is told as a tuple (front, items, back), items being a list of tuples 
 """
 
 from rowblade.errors import NoPattern
+from rowblade.signs import SIGNS, made_of
 
-PERCENT = 37
 MOST_ITEMS = 8
 MOST_SIGNS = 12
 NEVER_PLAIN = "^$.[]*+?/"
@@ -14,19 +14,14 @@ ONCE = "1"
 HOW_MANY = "*+?"
 
 
-def is_sign(sign):
-    # The percent sign goes by its number, since no text of the program's own may hold it.
-    return " " <= sign and sign <= "~" and ord(sign) != PERCENT
-
-
 def may_stand_plain(sign):
-    return is_sign(sign) and sign not in NEVER_PLAIN
+    return sign in SIGNS and sign not in NEVER_PLAIN
 
 
 def pattern(text):
     if not isinstance(text, str):
         raise NoPattern("a pattern is a text")
-    if not all([is_sign(sign) for sign in text]):
+    if not made_of(text, SIGNS):
         raise NoPattern("something in the pattern is no sign")
     front = text.startswith("^")
     body = text[1:] if front else text

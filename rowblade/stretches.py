@@ -42,7 +42,9 @@ def ends_with_item(item, row, behind):
     ends = list(behind) if may_be_left_out(item) else [NOWHERE] * len(behind)
     for place in range(len(row) - 1, -1, -1):
         if (row[place] in signs) != others:
-            ends[place] = max(ends[place], behind[place + 1])
-            if again:
-                ends[place] = max(ends[place], ends[place + 1])
+            end = behind[place + 1]
+            if again and ends[place + 1] > end:
+                end = ends[place + 1]
+            if end > ends[place]:
+                ends[place] = end
     return ends

@@ -118,7 +118,144 @@ def own_methods_of(trees):
     return {part.name for one in classes for part in one.body if isinstance(part, ast.FunctionDef)}
 
 
+def is_plain(node, defs):
+    """Whether a value may stand at a file's top."""
+    if isinstance(node, ast.UnaryOp):
+        return isinstance(node.op, ast.USub) and isinstance(node.operand, ast.Constant)
+    if isinstance(node, (ast.List, ast.Tuple)):
+        return all(is_plain(part, defs) for part in node.elts)
+    if isinstance(node, ast.Dict):
+        return all(is_plain(part, defs) for part in node.keys + node.values)
+    return isinstance(node, ast.Constant) or (isinstance(node, ast.Name) and node.id in defs)
+
+
+def faults_of_top(tree):
+    defs, bound = set(), set()
+    for node in tree.body:
+        names = [node.name] if isinstance(node, (ast.FunctionDef, ast.ClassDef)) else []
+        if isinstance(node, ast.FunctionDef):
+            defs.add(node.name)
+        if isinstance(node, ast.Assign):
+            names = [target.id for target in node.targets]
+            if not is_plain(node.value, defs):
+                yield f"L3 {names}"
+        if isinstance(node, ast.ImportFrom):
+            names = [alias.asname or alias.name for alias in node.names]
+        for name in names:
+            if name in bound:
+                yield f"L15 {name} twice"
+            bound.add(name)
+
+
+def faults_of_bodies(tree):
+    for node in ast.walk(tree):
+        if isinstance(node, ast.ClassDef):
+            if not all(isinstance(part, (ast.FunctionDef, ast.Pass)) for part in node.body) or len(node.bases) > 1:
+                yield f"L5 {node.name}"
+        elif isinstance(node, ast.Expr) and not isinstance(node.value, ast.Call) and node is not tree.body[0]:
+            yield f"L6 line {node.lineno}"
+
+
+def faults_of_locals(tree):
+    taken = {node.name for node in ast.walk(tree) if isinstance(node, ast.ClassDef)}
+    taken |= {alias.name for node in tree.body if isinstance(node, ast.ImportFrom) for alias in node.names}
+    for node in ast.walk(tree):
+        if isinstance(node, ast.FunctionDef):
+            names = {arg.arg for arg in node.args.args}
+            names |= {part.id for part in ast.walk(node) if isinstance(part, ast.Name) and isinstance(part.ctx, ast.Store)}
+            for name in names & taken:
+                yield f"L15 {name} in {node.name}"
+
+
+def faults_of_classes(tree, classes):
+    """Classes that stand where none may, and values walked otherwise than on the spot."""
+    allowed = set()
+    for node in ast.walk(tree):
+        if isinstance(node, ast.Call):
+            allowed.add(node.func)
+            if isinstance(node.func, ast.Name) and node.func.id == "isinstance":
+                allowed |= {node.args[1], *getattr(node.args[1], "elts", [])}
+        elif isinstance(node, ast.ClassDef):
+            allowed |= set(node.bases)
+        elif isinstance(node, ast.ExceptHandler):
+            allowed |= {node.type, *getattr(node.type, "elts", [])}
+    for node in ast.walk(tree):
+        if isinstance(node, ast.Name) and node.id in classes and node not in allowed and node.id != "self":
+            yield f"L18 {node.id} line {node.lineno}"
+
+
+WALKED = {"zip", "enumerate", "reversed", "range"}
+WALKERS = {"list", "tuple", "dict", "sorted", "sum", "any", "all", "enumerate", "zip", "min", "max"}
+
+
+def faults_of_walks(tree):
+    allowed = set()
+    for node in ast.walk(tree):
+        if isinstance(node, (ast.For, ast.comprehension)):
+            allowed.add(node.iter)
+        elif isinstance(node, ast.Call) and isinstance(node.func, ast.Name) and node.func.id in WALKERS:
+            allowed |= set(node.args[:1])
+    for node in ast.walk(tree):
+        if isinstance(node, ast.Call) and node not in allowed:
+            if isinstance(node.func, ast.Name) and node.func.id in WALKED:
+                yield f"L23 line {node.lineno}"
+            if isinstance(node.func, ast.Attribute) and node.func.attr in ("items", "keys", "values"):
+                yield f"L23 line {node.lineno}"
+
+
+def defined_in(tree):
+    names = {node.name for node in tree.body if isinstance(node, (ast.FunctionDef, ast.ClassDef))}
+    return names | {target.id for node in tree.body if isinstance(node, ast.Assign) for target in node.targets}
+
+
+def drawn_from(tree):
+    return {node.module.removeprefix("rowblade.") for node in tree.body if isinstance(node, ast.ImportFrom)}
+
+
+def methods_and_values(trees):
+    methods, values = set(), set()
+    for tree in trees:
+        for node in ast.walk(tree):
+            if isinstance(node, ast.ClassDef):
+                methods |= {part.name for part in node.body if isinstance(part, ast.FunctionDef)}
+            if isinstance(node, ast.Attribute) and isinstance(node.ctx, ast.Store):
+                values.add(node.attr)
+    return methods, values
+
+
 class LanguageTest(unittest.TestCase):
+    def test_more_of_the_form_of_each_file(self):
+        trees = {path: ast.parse(path.read_text("utf-8")) for path in files()}
+        classes = {node.name for tree in trees.values() for node in ast.walk(tree) if isinstance(node, ast.ClassDef)}
+        for path, tree in trees.items():
+            faults = list(faults_of_top(tree)) + list(faults_of_bodies(tree)) + list(faults_of_locals(tree))
+            faults += list(faults_of_classes(tree, classes)) + list(faults_of_walks(tree))
+            with self.subTest(path.name):
+                self.assertEqual(faults, [])
+
+    def test_names_are_drawn_from_the_file_that_defines_them(self):
+        trees = {path.stem: ast.parse(path.read_text("utf-8")) for path in files()}
+        for stem, tree in trees.items():
+            for node in tree.body:
+                if isinstance(node, ast.ImportFrom):
+                    names = {alias.name for alias in node.names}
+                    with self.subTest(stem, module=node.module):
+                        self.assertEqual(names - defined_in(trees[node.module.removeprefix("rowblade.")]), set())
+
+    def test_no_two_files_draw_from_one_another(self):
+        drawn = {path.stem: drawn_from(ast.parse(path.read_text("utf-8"))) for path in files()}
+        while drawn:
+            free = [stem for stem, others in drawn.items() if not others & set(drawn)]
+            self.assertNotEqual(free, [], sorted(drawn))
+            for stem in free:
+                drawn.pop(stem)
+
+    def test_no_name_is_a_method_and_a_value(self):
+        methods, values = methods_and_values([ast.parse(path.read_text("utf-8")) for path in files()])
+        # The methods that the interface names are taken, whether they are there already or not.
+        methods |= {"feed", "finish", "boxes", "faults", "kept"}
+        self.assertEqual(methods & values, set())
+
     def test_only_plain_files_lie_in_the_package(self):
         for path in PACKAGE.rglob("*"):
             if "__pycache__" not in path.parts:
