@@ -20,6 +20,7 @@ class Walker:
         # Between two turns the hand is None, at a join that wants a row it isn't.
         self.hand = None
         self.hand_rows = 0
+        # By its name, the things on each shelf: tuples of the text and how many rows it is made of.
         self.shelves = {}
         self.sums = {}
         self.noted = []
@@ -33,11 +34,14 @@ class Walker:
 
     # Behind are the rows of the text behind the one that is taken, as far as any truth asks for them.
     def take(self, row, behind):
+        self.take_with(row.text, self.teller.told_of(row, behind))
+
+    def take_with(self, text, truths):
         self.taken += 1
         self.log.append(("take", self.taken))
-        self.hand = row.text if self.hand is None else self.hand + " " + row.text
+        self.hand = text if self.hand is None else self.hand + " " + text
         self.hand_rows += 1
-        self.truths = self.teller.told_of(row, behind)
+        self.truths = truths
         self.met = {}
         self.wanting = False
         while not self.wanting:
@@ -130,13 +134,19 @@ class Walker:
             self.want()
 
     def do_pile(self, deed):
-        things = self.shelves.get(deed.shelf, []) + [self.hand]
+        things = self.shelves.get(deed.shelf, []) + [(self.hand, self.hand_rows)]
         self.shelves[deed.shelf] = things if deed.most is None else things[-deed.most:]
 
     def do_bring(self, deed):
         for thing in self.shelves.get(deed.shelf, []):
-            self.give(thing)
+            self.give(thing[0])
         self.shelves[deed.shelf] = []
+
+    def rows_on_shelves(self):
+        many = 0
+        for things in self.shelves.values():
+            many += sum([thing[1] for thing in things])
+        return many
 
     def do_add(self, deed, number):
         name = word_of(self.hand, deed.first)

@@ -139,6 +139,7 @@ class PlainWalk:
         return False
 
     def turn(self):
+        self.at = self.made = 0
         if not self.want():
             return False
         self.hand, self.made = self.rows[self.taken - 1], 1
@@ -169,6 +170,7 @@ class PlainWalk:
         if word in ("drop", "done") or (word == "join" and self.made >= int(rest)):
             return None
         if word == "join":
+            self.at = at
             if not self.want():
                 self.log.append(("give", self.hand))
                 return None
@@ -180,7 +182,7 @@ class PlainWalk:
             self.hand = swapped(self.hand, text[1:-1], words[1:-1], every is not None)
         elif word == "pile":
             name, _, most = rest.partition(" ")
-            self.shelves.setdefault(name, []).append(self.hand)
+            self.shelves.setdefault(name, []).append((self.hand, self.made))
             while most and len(self.shelves[name]) > int(most):
                 self.shelves[name].pop(0)
         elif word == "add":
@@ -202,9 +204,53 @@ class PlainWalk:
         if word == "say":
             self.log.append(("give", rest[1:-1]))
         elif word == "bring":
-            self.log += [("give", thing) for thing in self.shelves.pop(rest, [])]
+            self.log += [("give", hand) for hand, made in self.shelves.pop(rest, [])]
         elif word == "tell":
             self.log += [("give", f"{name} {self.boxes[name]}") for name in sorted(self.boxes)]
+
+
+class Waits(Exception):
+    """A row is wanted that can't be taken yet."""
+
+
+class PlainBlade(PlainWalk):
+    """The walk over the whole rows that came, as far as each row taken has as many behind it as must be seen."""
+
+    def __init__(self, program, rows):
+        super().__init__(program, "".join(row + "\n" for row in rows))
+        self.may_take = len(rows) - plain_ahead(program)
+        self.refused = None
+        try:
+            self.refused = self.told()
+        except Waits:
+            pass
+
+    def want(self):
+        if self.taken >= self.may_take:
+            raise Waits
+        return super().want()
+
+    def given(self):
+        return [row[1] for row in self.log if row[0] == "give"]
+
+    def kept(self):
+        return len(self.rows) - self.taken + self.made + sum(made for things in self.shelves.values() for hand, made in things)
+
+    def stand(self, greatest):
+        """All that later rows may do depends on it, where no condition asks for a row behind the greatest."""
+        return repr((min(self.taken, greatest), self.flags, self.at, self.made, self.rows[self.taken:]))
+
+    def things(self):
+        return repr([(name, [made for hand, made in self.shelves[name]]) for name in sorted(self.shelves)])
+
+
+def plain_ahead(program):
+    """Point 31."""
+    many = [0]
+    for row in program.split("\n")[:-1]:
+        cond = (parted(row)[0] or "").removeprefix("not ")
+        many.append(1 if cond == "last" else int(cond[5]) if cond.startswith("soon ") else 0)
+    return max(many)
 
 
 def plain_walk(program, text):

@@ -1,14 +1,14 @@
 """Turns, truths, flags and the log, points 2, 20 to 23 and 29."""
 
 import copy
-import random
 import unittest
 
 from helpers import brief, given, plain, text_of, truths, walked
+from madeup import MadeUp
 from oracle import plain_walk
 from rowblade.errors import Endless
 from rowblade.lines import Always, FromTo, Like, Line, Print, Program, RowIs, Say
-from rowblade.patterns import least_length, pattern
+from rowblade.patterns import pattern
 from rowblade.reading import read
 from rowblade.showing import shown
 from rowblade.walk import run, walk
@@ -311,63 +311,12 @@ class StayTest(unittest.TestCase):
 
 
 class ManyWalksTest(unittest.TestCase):
-    """Walks of programs made up by chance, told as by the plain words of the tests' own."""
-
-    PATTERNS = ["a", "b", "^a", "b$", "[ab]", "[^a]+", "a*b", "a?b+", ".", "a.b", " ", "[0123456789]+", "c"]
-    MAY_BE_EMPTY = ["", "^$", ".*", "^b*$"]
-    ROWS = ["a", "b", "ab", "ba", "", "a 1", "b 2", "a -3", "c", "aab", "abab", "a 05 b", " b  7 "]
-
-    def setUp(self):
-        self.chance = random.Random(29)
-
-    def pick(self, things):
-        return self.chance.choice(things)
-
-    def number(self, most):
-        return self.chance.randint(1, most)
-
-    def pat(self):
-        return "/" + self.pick(self.PATTERNS + self.MAY_BE_EMPTY) + "/"
-
-    def edge(self):
-        return self.pick([self.pat(), f"row {self.number(6)}"])
-
-    def cond(self):
-        kinds = [
-            f"row {self.number(6)}", "last", self.pat(), self.pat(), f"soon {self.number(3)} {self.pat()}",
-            f"from {self.edge()} to {self.edge()}",
-        ]
-        return self.pick(["", "", "not "]) + self.pick(kinds)
-
-    def words(self, most):
-        return "\"" + "".join(self.pick("abc 1/:x") for at in range(self.chance.randint(0, most))) + "\""
-
-    def deed(self, names):
-        text = self.pick(self.PATTERNS)
-        kinds = [
-            "drop", "print", "done", "say " + self.words(4), f"swap /{text}/ {self.words(4)}",
-            f"swap every /{text}/ {self.words(least_length(pattern(text)))}", f"join {self.number(3) + 1}",
-            f"pile {self.pick('xy')} {self.number(3)}", f"pile {self.pick('xy')}", f"bring {self.pick('xy')}",
-            f"add {self.number(3)} {self.number(3)}", "add 1 2",
-        ]
-        return self.pick(kinds + ["go " + name for name in names])
-
-    def program(self):
-        names = self.chance.sample(["m", "n", "o"], self.chance.randint(0, 3))
-        lines = ["mark " + name for name in names]
-        for at in range(self.chance.randint(0, 9)):
-            deed = self.deed(names)
-            ends = "end: " + self.pick(["tell", "bring x", "bring y", "say \"e\""])
-            lines.append(self.pick([f"{self.cond()}: {deed}"] * 7 + [deed, deed, ends]))
-        self.chance.shuffle(lines)
-        return text_of(lines)
-
     def test_many_walks(self):
+        """Walks of programs made up by chance, told as by the plain words of the tests' own."""
+        made_up = MadeUp(29)
         refused = 0
         for again in range(4000):
-            lines = self.program()
-            rows = [self.pick(self.ROWS) for at in range(self.chance.randint(0, 8))]
-            text = "\n".join(rows) + self.pick(["", "\n"])
+            lines, text = made_up.program(), made_up.text()
             program = read(lines)
             self.assertEqual(shown(program), lines)
             try:
