@@ -1,6 +1,8 @@
 """What the tests of programs share."""
 
-from rowblade.lines import Cond, Deed, Line
+import copy
+
+from rowblade.lines import Cond, Deed, Line, Program
 from rowblade.reading import read
 from rowblade.walk import walk
 
@@ -10,6 +12,17 @@ def plain(thing):
     if isinstance(thing, (Line, Cond, Deed)):
         return (type(thing).__name__, *(plain(value) for value in vars(thing).values()))
     return thing
+
+
+def rebuilt(program):
+    """The program made once more of its parts."""
+    return Program([Line(rebuilt_part(line.cond), rebuilt_part(line.deed)) for line in program.lines])
+
+
+def rebuilt_part(thing):
+    if isinstance(thing, (Cond, Deed)):
+        return type(thing)(*(rebuilt_part(value) for value in vars(thing).values()))
+    return copy.deepcopy(thing)
 
 
 def text_of(rows):
