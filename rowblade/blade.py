@@ -3,7 +3,6 @@
 from rowblade.errors import Finished
 from rowblade.lines import Last, Not, Soon
 from rowblade.truths import TextRow
-from rowblade.walk import given_in
 from rowblade.walker import Walker
 
 
@@ -38,7 +37,7 @@ class Blade:
         for part in parts[:-1]:
             self.come(part)
         self.take_all_but(self.seen)
-        return self.given_by_now()
+        return self.walker.hand_over()
 
     def finish(self):
         self.refuse_once_finished()
@@ -47,7 +46,7 @@ class Blade:
             self.come(self.rest)
         self.take_all_but(0)
         self.walker.finish()
-        return self.given_by_now()
+        return self.walker.hand_over()
 
     def refuse_once_finished(self):
         if self.finished:
@@ -61,12 +60,6 @@ class Blade:
         while len(self.waiting) > many:
             row = self.waiting.pop(0)
             self.walker.take(row, self.waiting[:self.seen])
-
-    # The log goes with what it tells, so that a long text leaves nothing behind.
-    def given_by_now(self):
-        rows = given_in(self.walker.log)
-        self.walker.log = []
-        return rows
 
     def boxes(self):
         return dict(self.walker.sums)

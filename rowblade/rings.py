@@ -11,8 +11,8 @@ def growing_ring(rooms):
 
 
 def ring_at(ways, place):
-    staying = [[way for way in some if stays(way, place)] for some in ways]
-    parts = ring_parts([[way.there for way in some] for some in staying])
+    staying = [those_that_stay(some, place) for some in ways]
+    parts = ring_parts([rooms_behind(some) for some in staying])
     for here, some in enumerate(staying):
         for way in some:
             if grows(way, place) and parts[here] == parts[way.there]:
@@ -20,9 +20,13 @@ def ring_at(ways, place):
     return None
 
 
-# Nothing goes from the shelf whose rows this place of a load counts.
-def stays(way, place):
-    return way.move[place][0] == place
+# Those on which nothing goes from the shelf whose rows this place of a load counts.
+def those_that_stay(ways, place):
+    return [way for way in ways if way.move[place][0] == place]
+
+
+def rooms_behind(ways):
+    return [way.there for way in ways]
 
 
 def grows(way, place):

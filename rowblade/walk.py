@@ -2,7 +2,7 @@
 
 from rowblade.rows import cut, pasted
 from rowblade.truths import text_rows
-from rowblade.walker import Walker
+from rowblade.walker import Walker, given_in
 
 
 def walk(program, text):
@@ -12,10 +12,6 @@ def walk(program, text):
         walker.take(row, rows[number:])
     walker.finish()
     return (given_in(walker.log), walker.sums, walker.noted, walker.log)
-
-
-def given_in(log):
-    return [entry[1] for entry in log if entry[0] == "give"]
 
 
 def run(program, text):

@@ -65,6 +65,12 @@ class Walker:
         if truth:
             self.do(line.deed, number)
 
+    # The log goes with the rows that it tells as given, so that a long text leaves nothing of it behind.
+    def hand_over(self):
+        rows = given_in(self.log)
+        self.log = []
+        return rows
+
     def finish(self):
         self.find_none()
         if self.hand is not None:
@@ -160,6 +166,10 @@ class Walker:
     def do_tell(self):
         for name in sorted(self.sums):
             self.give(name + " " + str(self.sums[name]))
+
+
+def given_in(log):
+    return [entry[1] for entry in log if entry[0] == "give"]
 
 
 # By its name, the number of each mark, which is how many lines stand ahead of the one behind it.

@@ -184,6 +184,48 @@ def faults_of_classes(tree, classes):
             yield f"L18 {node.id} line {node.lineno}"
 
 
+def faults_of_given_values(tree):
+    for node in ast.walk(tree):
+        if isinstance(node, ast.Attribute) and isinstance(node.ctx, ast.Store) and not isinstance(node.value, ast.Name):
+            yield f"L18 line {node.lineno}"
+
+
+KEYWORDS = {
+    "sorted": {"key", "reverse"}, "min": {"key", "default"}, "max": {"key", "default"}, "sum": {"start"},
+    "enumerate": {"start"}, "zip": {"strict"},
+}
+
+
+def faults_of_keywords(tree):
+    """Keywords at names of Python's own and at methods, which have none here."""
+    for node in ast.walk(tree):
+        if isinstance(node, ast.Call):
+            names = {keyword.arg for keyword in node.keywords}
+            own = isinstance(node.func, ast.Name) and not hasattr(builtins, node.func.id)
+            if names - KEYWORDS.get(getattr(node.func, "id", ""), set()) and not own:
+                yield f"L22 line {node.lineno}"
+
+
+CHANGES = {"append", "clear", "extend", "insert", "pop", "remove", "reverse", "setdefault", "update"}
+
+
+def faults_of_changes(tree):
+    """What a loop walks, by its name or as a value of an object, changed within the loop."""
+    for loop in ast.walk(tree):
+        if isinstance(loop, ast.For):
+            walked = [loop.iter]
+            if isinstance(loop.iter, ast.Call):
+                walked = loop.iter.args + ([loop.iter.func.value] if isinstance(loop.iter.func, ast.Attribute) else [])
+            walked = {ast.unparse(one) for one in walked if isinstance(one, (ast.Name, ast.Attribute))}
+            for node in (part for row in loop.body for part in ast.walk(row)):
+                if isinstance(node, ast.Call) and isinstance(node.func, ast.Attribute) and node.func.attr in CHANGES:
+                    if ast.unparse(node.func.value) in walked:
+                        yield f"L23 line {node.lineno}"
+                if isinstance(node, ast.Subscript) and isinstance(node.ctx, ast.Store):
+                    if ast.unparse(node.value) in walked:
+                        yield f"L23 line {node.lineno}"
+
+
 WALKED = {"zip", "enumerate", "reversed", "range"}
 WALKERS = {"list", "tuple", "dict", "sorted", "sum", "any", "all", "enumerate", "zip", "min", "max"}
 
@@ -230,6 +272,7 @@ class LanguageTest(unittest.TestCase):
         for path, tree in trees.items():
             faults = list(faults_of_top(tree)) + list(faults_of_bodies(tree)) + list(faults_of_locals(tree))
             faults += list(faults_of_classes(tree, classes)) + list(faults_of_walks(tree))
+            faults += list(faults_of_given_values(tree)) + list(faults_of_keywords(tree)) + list(faults_of_changes(tree))
             with self.subTest(path.name):
                 self.assertEqual(faults, [])
 
